@@ -321,7 +321,7 @@ func multiplied(a, b api.Interval) (api.Interval, bool) {
 	return all, isSmall(all.Lo) && isSmall(all.Hi)
 }
 
-// spans returns points and intervals of ends, n of them left out for each that is there.
+// spans returns points and intervals, which end at each n-th one of the ends only.
 func spans(n int) []api.Interval {
 	var all []api.Interval
 	some := every(n, ends())

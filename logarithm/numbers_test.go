@@ -262,7 +262,7 @@ const (
 	fine = known + roots + 64
 )
 
-// rooted returns about ln x * 2^known for x in units of 2^-fine, at least one, and off by less than a unit of 2^-fine. Unlike the package, it draws square roots until the rest is next to 1, and adds the series of the logarithm there.
+// rooted returns about ln x * 2^known, for x at least 1, given in units of 2^-fine and off by less than one of them. Unlike the package, it draws square roots until the rest is next to 1, and adds the series of the logarithm there.
 func rooted(x *big.Int) *big.Int {
 	x = new(big.Int).Set(x)
 	for range roots {
